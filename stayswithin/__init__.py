@@ -1,0 +1,1 @@
+"""Whether a machine can be kept within limits for ever, with papers."""
