@@ -131,7 +131,8 @@ class Code(unittest.TestCase):
 
     def test_no_builtin_gets_another_meaning(self):
         for path, tree in trees().items():
-            self.assertEqual(bound_in(tree) & set(dir(builtins)), set(), path.name)
+            # `_` may be assigned; doctest makes a builtin of it.
+            self.assertEqual(bound_in(tree) & set(dir(builtins)) - {"_"}, set(), path.name)
 
 
 if __name__ == "__main__":
