@@ -72,3 +72,53 @@ def proves(rows, goal, answer):
     if answer[0] == "none":
         return len(answer) == 2 and proves_none(rows, len(goal), answer[1])
     return judges[answer[0]](rows, goal, *answer[1:])
+
+
+def told(number):
+    """The fraction of the program that stands for a number: an integer, a fraction of Python or a string."""
+    part = Fraction(number)
+    return (part.numerator, part.denominator)
+
+
+def point(*numbers):
+    """The point with these coordinates."""
+    return tuple(told(number) for number in numbers)
+
+
+def proves_by(rows, row, multipliers):
+    factors = numbers_of(multipliers, len(rows))
+    sums, bound = sums_of(rows, len(row[0]), factors)
+    return min(factors, default=0) >= 0 and sums == list(row[0]) and bound <= row[1]
+
+
+def proves_not(rows, row, value):
+    numbers = numbers_of(value, len(row[0]))
+    return within(rows, numbers) and not within([row], numbers)
+
+
+def proves_implication(rows, row, paper):
+    """Whether an answer of implication is of one of the three forms, with a right paper."""
+    assert type(paper) is tuple and len(paper) == 2, paper
+    word, shown = paper
+    if word == "none":
+        return proves_none(rows, len(row[0]), shown)
+    return {"by": proves_by, "not": proves_not}[word](rows, row, shown)
+
+
+def are_weights(value, count):
+    numbers = numbers_of(value, count)
+    return min(numbers) >= 0 and sum(numbers) == 1
+
+
+def mix_of(weights, points):
+    """The sum of the points by the weights, as numbers."""
+    factors = [plain(weight) for weight in weights]
+    return [product_sum(factors, column) for column in zip(*(numbers_of(each, len(each)) for each in points))]
+
+
+def parts(points, value, row):
+    """Whether a row parts the point from the points."""
+    assert type(row) is tuple and type(row[0]) is tuple, row
+    assert all(type(number) is int for number in (*row[0], row[1])), row
+    return (all(within([row], numbers_of(each, len(row[0]))) for each in points)
+            and not within([row], numbers_of(value, len(row[0]))))

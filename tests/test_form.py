@@ -2,7 +2,9 @@
 
 import ast
 import builtins
+import io
 import pathlib
+import tokenize
 import unittest
 
 PACKAGE = pathlib.Path(__file__).resolve().parent.parent / "stayswithin"
@@ -18,6 +20,13 @@ BUILTINS = set("""len range enumerate zip min max sum abs sorted reversed int st
     staticmethod classmethod object float type print Exception ValueError TypeError KeyError IndexError LookupError
     ZeroDivisionError ArithmeticError OverflowError RuntimeError NotImplementedError AttributeError StopIteration
     NotImplemented""".split())
+METHODS = set("""append clear copy count endswith extend find get index insert isalnum isalpha isdigit islower isspace
+    isupper items join keys ljust lower lstrip partition pop remove replace reverse rfind rjust rpartition rsplit rstrip
+    setdefault split splitlines startswith strip update upper values zfill bit_length title capitalize swapcase casefold
+    center expandtabs removeprefix removesuffix rindex isascii isdecimal isnumeric istitle isidentifier isprintable
+    translate""".split())
+WORDS = set("""type typing typing_extensions enum Enum IntEnum StrEnum Flag IntFlag Generic Protocol ABC ABCMeta namedtuple
+    NamedTuple TypedDict TYPE_CHECKING abstractmethod _wall _WallAttr""".split())
 BARRED = (ast.Div, ast.MatMult, ast.AsyncFunctionDef, ast.AsyncFor, ast.AsyncWith, ast.Await, ast.Import)
 
 
@@ -57,6 +66,21 @@ def bound_in(tree):
         elif isinstance(node, ast.Name) and not isinstance(node.ctx, ast.Load):
             names.add(node.id)
     return names
+
+
+def locals_of(tree):
+    """The names of parameters and of what functions assign, those of classes and functions excluded."""
+    names = {node.arg for node in ast.walk(tree) if isinstance(node, ast.arg)}
+    for function in ast.walk(tree):
+        if isinstance(function, ast.FunctionDef):
+            names |= {node.id for node in ast.walk(function)
+                      if isinstance(node, ast.Name) and not isinstance(node.ctx, ast.Load)}
+    return names
+
+
+def methods_of(tree):
+    return {node.name for kind in tree.body if isinstance(kind, ast.ClassDef)
+            for node in kind.body if isinstance(node, ast.FunctionDef)}
 
 
 class Files(unittest.TestCase):
@@ -128,6 +152,24 @@ class Code(unittest.TestCase):
                 if isinstance(node, ast.Name):
                     with self.subTest(path.name, line=node.lineno):
                         self.assertIn(node.id, known)
+
+    def test_no_local_name_is_that_of_an_import_a_class_or_a_function_of_the_file(self):
+        for path, tree in trees().items():
+            names = {alias.name for node in imports_of(tree) for alias in node.names} | set(defined_in(tree))
+            self.assertEqual(locals_of(tree) & names, set(), path.name)
+
+    def test_methods_are_own_ones_or_allowed_ones_of_builtin_values(self):
+        own = set().union(*(methods_of(tree) for tree in trees().values()))
+        for path, tree in trees().items():
+            for node in ast.walk(tree):
+                if isinstance(node, ast.Call) and isinstance(node.func, ast.Attribute):
+                    with self.subTest(path.name, line=node.lineno):
+                        self.assertIn(node.func.attr, METHODS | own)
+
+    def test_words_that_are_not_used(self):
+        for path in files():
+            words = {word for _, word, *_ in tokenize.generate_tokens(io.StringIO(path.read_text("ascii")).readline)}
+            self.assertEqual(words & WORDS, set(), path.name)
 
     def test_no_builtin_gets_another_meaning(self):
         for path, tree in trees().items():

@@ -9,14 +9,8 @@ from stayswithin import programs
 from stayswithin.programs import (
     combined, is_best, is_endless, is_none, is_solution, is_unsolvable, is_within, whole_row)
 from stayswithin.simplex import best, solved
+from tests.odd import LONG, NO_FRACTIONS, bent, moved
 from tests.papers import proves_best, proves_endless, proves_none, proves_solution, proves_unsolvable
-
-# Values that are no fractions, and values that are no tuples of fractions, whatever their length.
-NO_FRACTIONS = (
-    None, True, False, 0, 1, 11, "", "1", "11", (), (1,), (1, 1, 1), [1, 1], (2, 2), (22, 2), (0, 2), (1, 0), (-1, -1),
-    (11, -1), (True, 1), (1, True), (1, None), ("1", 1), ((1, 1), 1), ((1, 1),), ((1, 1), (1, 1)), [(1, 1)])
-NO_POINTS = (None, True, False, 0, 1, 2, "", "a", "ab", [], [(1, 1)], [(1, 1), (1, 1)], (1, 1), (1, 2), ("a", "b"))
-LONG = 10 ** 90 + 1
 
 # 3 x + 4 y is at most 11, and is it at (1, 2).
 ROWS = [((2, 1), 4), ((1, 3), 7), ((-1, 0), 9)]
@@ -31,29 +25,6 @@ OPEN = [((-1, 1), 0), ((0, 1), 3)]
 EQUATIONS = [((1, 1), 3), ((1, -1), 1)]
 # 2 x + 3 y is 6, x + y is 4.
 UNSOLVABLE = [((2, 3), 6), ((1, 1), 4)]
-
-
-def bent(value):
-    """Values that differ from a tuple of fractions in one part, in its form: none of them is a paper."""
-    yield from NO_POINTS
-    yield list(value)
-    yield value[:-1]
-    yield (*value, (0, 1))
-    yield ((0, 1), *value)
-    yield (value,)
-    for at, (number, divisor) in enumerate(value):
-        for odd in (*NO_FRACTIONS, [number, divisor], (2 * number, 2 * divisor), (-number, -divisor), number,
-                    (number, divisor, 1), (str(number), divisor), ((number, divisor),)):
-            yield (*value[:at], odd, *value[at + 1:])
-
-
-def moved(value):
-    """Tuples of fractions that differ from a tuple of fractions in one part, by a little or in a sign."""
-    for at, (number, divisor) in enumerate(value):
-        part = Fraction(number, divisor)
-        for other in (part + 1, part - 1, -part, part + Fraction(1, LONG), part - Fraction(1, LONG)):
-            if other != part:
-                yield (*value[:at], (other.numerator, other.denominator), *value[at + 1:])
 
 
 class Interface(unittest.TestCase):
