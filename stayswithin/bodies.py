@@ -127,5 +127,5 @@ def outside(rows, others):
 
 def same_body(rows, others):
     """Tell whether both bodies have the same points."""
-    # If the rows, which have a point, lead to the others, these have a point too.
+    # Behind the first half all points of the rows meet the others: these have a point too, and do not raise NoPoint.
     return outside(rows, others) is None and outside(others, rows) is None

@@ -491,6 +491,8 @@ class Outside(Asks):
         for others in (SQUARE, EMPTY, [], [((0, 0), 0)], [((0, 0), -1)]):
             self.has_no_point(outside, EMPTY, others)
             self.has_no_point(outside, tuple(EMPTY), tuple(others))
+        self.has_no_point(outside, [((0, 0), -1)], [])
+        self.has_no_point(same_body, [((0, 0), -1)], [])
 
     def test_others_without_a_point(self):
         self.check(SQUARE, EMPTY, 0)
